@@ -1,0 +1,1 @@
+"""Levelkin: webs told alike at a level, from four sides."""

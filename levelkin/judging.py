@@ -1,0 +1,35 @@
+"""What kind of thing an argument is, in the words of the document. (0.2, 1.2, 1.3, 2.1)"""
+
+
+def is_whole(thing):
+    """Whether a thing is an integer: flags are none."""
+    return isinstance(thing, int) and not isinstance(thing, bool)
+
+
+def is_number(thing):
+    """Whether a thing is an integer from 0 on."""
+    return is_whole(thing) and thing >= 0
+
+
+def is_below(many, thing):
+    """Whether a thing is one of the numbers below many."""
+    return is_number(thing) and thing < many
+
+
+def is_level(thing):
+    """Whether a thing is a level."""
+    return is_whole(thing) and 1 <= thing <= 3
+
+
+def is_order(many, thing):
+    """Whether a thing is a tuple of all numbers below many, each once."""
+    if not isinstance(thing, tuple) or len(thing) != many:
+        return False
+    return all([is_below(many, place) for place in thing]) and len(set(thing)) == many
+
+
+def is_row(many, most, thing):
+    """Whether a thing is a tuple of at most so many of the numbers below many."""
+    if not isinstance(thing, tuple) or len(thing) > most:
+        return False
+    return all([is_below(many, place) for place in thing])
