@@ -8,8 +8,8 @@ import unittest
 FOLDER = pathlib.Path(__file__).resolve().parent.parent / "levelkin"
 FILES = sorted(FOLDER.rglob("*.py"))
 NODES = (
-    ast.Module, ast.ImportFrom, ast.alias, ast.FunctionDef, ast.ClassDef, ast.arguments, ast.arg, ast.Expr, ast.Constant,
-    ast.Assign, ast.AugAssign, ast.If, ast.While, ast.For, ast.Return, ast.Break, ast.Continue, ast.Pass, ast.Raise,
+    ast.Module, ast.ImportFrom, ast.alias, ast.FunctionDef, ast.ClassDef, ast.arguments, ast.arg, ast.Expr,
+    ast.Constant, ast.Assign, ast.AugAssign, ast.If, ast.While, ast.For, ast.Return, ast.Break, ast.Continue, ast.Pass, ast.Raise,
     ast.Name, ast.Attribute, ast.Subscript, ast.Slice, ast.Starred, ast.Tuple, ast.List, ast.Dict, ast.ListComp,
     ast.DictComp, ast.SetComp, ast.comprehension, ast.Call, ast.keyword, ast.Compare, ast.BoolOp, ast.BinOp,
     ast.UnaryOp, ast.IfExp, ast.Load, ast.Store, ast.Del, ast.Delete, ast.And, ast.Or, ast.Not, ast.USub, ast.Add,
@@ -17,12 +17,12 @@ NODES = (
     ast.NotEq, ast.Lt, ast.LtE, ast.Gt, ast.GtE, ast.Is, ast.IsNot, ast.In, ast.NotIn,
 )
 BUILTINS = (
-    "len range enumerate zip min max sum abs sorted reversed int str bool list tuple dict set isinstance ord repr any all "
-    "divmod ValueError"
+    "len range enumerate zip min max sum abs sorted reversed int str bool list tuple dict set isinstance ord repr any "
+    "all divmod ValueError"
 ).split()
 METHODS = (
-    "append clear copy count endswith extend find get index insert isalnum isalpha isdigit islower isspace isupper items "
-    "join keys ljust lower lstrip partition pop remove replace reverse rfind rjust rpartition rsplit rstrip setdefault "
+    "append clear copy count endswith extend find get index insert isalnum isalpha isdigit islower isspace isupper "
+    "items join keys ljust lower lstrip partition pop remove replace reverse rfind rjust rpartition rsplit rstrip setdefault "
     "split splitlines startswith strip update upper values zfill bit_length"
 ).split()
 BARRED = (
