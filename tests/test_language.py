@@ -9,7 +9,8 @@ FOLDER = pathlib.Path(__file__).resolve().parent.parent / "levelkin"
 FILES = sorted(FOLDER.rglob("*.py"))
 NODES = (
     ast.Module, ast.ImportFrom, ast.alias, ast.FunctionDef, ast.ClassDef, ast.arguments, ast.arg, ast.Expr,
-    ast.Constant, ast.Assign, ast.AugAssign, ast.If, ast.While, ast.For, ast.Return, ast.Break, ast.Continue, ast.Pass, ast.Raise,
+    ast.Constant, ast.Assign, ast.AugAssign, ast.If, ast.While, ast.For, ast.Return, ast.Break, ast.Continue,
+    ast.Pass, ast.Raise,
     ast.Name, ast.Attribute, ast.Subscript, ast.Slice, ast.Starred, ast.Tuple, ast.List, ast.Dict, ast.ListComp,
     ast.DictComp, ast.SetComp, ast.comprehension, ast.Call, ast.keyword, ast.Compare, ast.BoolOp, ast.BinOp,
     ast.UnaryOp, ast.IfExp, ast.Load, ast.Store, ast.Del, ast.Delete, ast.And, ast.Or, ast.Not, ast.USub, ast.Add,
@@ -22,8 +23,8 @@ BUILTINS = (
 ).split()
 METHODS = (
     "append clear copy count endswith extend find get index insert isalnum isalpha isdigit islower isspace isupper "
-    "items join keys ljust lower lstrip partition pop remove replace reverse rfind rjust rpartition rsplit rstrip setdefault "
-    "split splitlines startswith strip update upper values zfill bit_length"
+    "items join keys ljust lower lstrip partition pop remove replace reverse rfind rjust rpartition rsplit rstrip "
+    "setdefault split splitlines startswith strip update upper values zfill bit_length"
 ).split()
 BARRED = (
     "type typing enum Enum Flag Generic Protocol ABC namedtuple register mro elements open input law sys os exec eval "
