@@ -23,8 +23,23 @@ class Chart:
         self.looks = looks
         self.strides = strides_of(many, level)
 
-    def seen(self, numbers, at):
-        """What the row at this number sees, by these numbers of all rows: tuples (look, colour, ..)."""
+    def number_of(self, row):
+        """The number at which what surely is a row stands."""
+        at = 0
+        for place in row:
+            at = self.many * at + 1 + place
+        return at
+
+    def behind(self, at, place):
+        """The number of the row with the place behind it; only its look is kept if it is too long for the level."""
+        return self.many * at + 1 + place
+
+    def exchanged(self, at, place):
+        """The numbers of the rows with the place for item 0, item 1, .. of a row of the level's full length."""
+        return [at + (place - own) * stride for own, stride in zip(self.rows[at], self.strides)]
+
+    def sights(self, numbers, at):
+        """What the row at this number sees at each place, by these numbers of all rows: tuples (look, colour, ..)."""
         row = self.rows[at]
         first = self.many * at + 1
         looks = self.looks[first:first + self.many]
@@ -35,7 +50,11 @@ class Chart:
             for place, stride in zip(row, self.strides):
                 start = at - place * stride
                 columns.append(numbers[start:start + self.many * stride:stride])
-        return tuple(sorted(list(zip(looks, *columns))))
+        return list(zip(looks, *columns))
+
+    def seen(self, numbers, at):
+        """What the row at this number sees, put in order."""
+        return tuple(sorted(self.sights(numbers, at)))
 
 
 def rows_of(many, most):
@@ -117,16 +136,26 @@ def next_numbers(charts, numbers):
     return after
 
 
-def last_numbers(charts):
-    """The least round behind which there are no more numbers, and for each chart the numbers of its rows there."""
-    turn = 0
-    numbers = first_numbers(charts)
-    after = next_numbers(charts, numbers)
-    while after != numbers:
-        turn = turn + 1
-        numbers = after
-        after = next_numbers(charts, numbers)
-    return turn, numbers
+def history(charts):
+    """For each round, to the least one behind which there are no more numbers, those of the rows of each chart."""
+    told = [first_numbers(charts)]
+    after = next_numbers(charts, told[-1])
+    while after != told[-1]:
+        told.append(after)
+        after = next_numbers(charts, after)
+    return told
+
+
+def sights_numbered(charts, numbers):
+    """For each chart, for each of its rows, the list of what it sees at each place, each such thing as a number."""
+    lists = []
+    for chart, own in zip(charts, numbers):
+        lists.append([sight for at in range(len(own)) for sight in chart.sights(own, at)])
+    _, told = numbered(lists)
+    rows = []
+    for chart, own in zip(charts, told):
+        rows.append([own[start:start + chart.many] for start in range(0, len(own), chart.many)])
+    return rows
 
 
 def colouring(webs, level):
@@ -134,8 +163,8 @@ def colouring(webs, level):
     check_webs(webs)
     check_level(webs, level)
     _, charts = charts_of(webs, level)
-    turn, numbers = last_numbers(charts)
-    return turn, [dict(zip(chart.rows, own)) for chart, own in zip(charts, numbers)]
+    told = history(charts)
+    return len(told) - 1, [dict(zip(chart.rows, own)) for chart, own in zip(charts, told[-1])]
 
 
 def is_told(many, level, thing):
@@ -174,7 +203,7 @@ def portrait(web, level):
     check_level([web], level)
     looks, charts = charts_of([web], level)
     chart = charts[0]
-    _, (numbers,) = last_numbers(charts)
+    numbers = history(charts)[-1][0]
     having = {}
     for at, number in enumerate(numbers):
         having.setdefault(number, []).append(at)

@@ -33,3 +33,10 @@ def is_row(many, most, thing):
     if not isinstance(thing, tuple) or len(thing) > most:
         return False
     return all([is_below(many, place) for place in thing])
+
+
+def is_lot(many, thing):
+    """Whether a thing is an ascending tuple of unlike numbers below many."""
+    if not isinstance(thing, tuple) or not all([is_below(many, number) for number in thing]):
+        return False
+    return all([ahead < number for ahead, number in zip(thing, thing[1:])])

@@ -13,6 +13,18 @@ LISTED = {
         "colouring": ("webs", "level"), "is_closed": ("webs", "level", "thing"),
         "alike": ("one", "other", "level"), "portrait": ("web", "level"),
     },
+    "turnings": {
+        "turning": ("one", "other"), "is_turning": ("one", "other", "thing"), "many_turnings": ("web",),
+    },
+    "sayings": {
+        "is_saying": ("thing",), "holds": ("web", "saying", "places"), "free": ("saying",), "names": ("saying",),
+        "depth": ("saying",), "many_that": ("web", "saying", "name", "places"), "turned": ("saying", "order"),
+        "plain": ("saying",),
+    },
+    "partings": {
+        "parting": ("one", "other", "level"), "is_parting": ("one", "other", "level", "thing"),
+        "marks": ("webs", "level", "number"),
+    },
 }
 
 

@@ -15,8 +15,11 @@ NODES = (
     ast.DictComp, ast.SetComp, ast.comprehension, ast.Call, ast.keyword, ast.Compare, ast.BoolOp, ast.BinOp,
     ast.UnaryOp, ast.IfExp, ast.Load, ast.Store, ast.Del, ast.Delete, ast.And, ast.Or, ast.Not, ast.USub, ast.Add,
     ast.Sub, ast.Mult, ast.FloorDiv, ast.Mod, ast.BitAnd, ast.BitOr, ast.BitXor, ast.LShift, ast.RShift, ast.Eq,
-    ast.NotEq, ast.Lt, ast.LtE, ast.Gt, ast.GtE, ast.Is, ast.IsNot, ast.In, ast.NotIn,
+    ast.NotEq, ast.Lt, ast.LtE, ast.Gt, ast.GtE, ast.Is, ast.IsNot, ast.In, ast.NotIn, ast.JoinedStr,
+    ast.FormattedValue,
 )
+# What may be imported from Python itself.
+LIBRARY = {"math": ("gcd",)}
 BUILTINS = (
     "len range enumerate zip min max sum abs sorted reversed int str bool list tuple dict set isinstance ord repr any "
     "all divmod ValueError"
@@ -103,10 +106,14 @@ class Statements(unittest.TestCase):
         names = {file.stem: tree for file, tree in trees()}
         for file, tree in trees():
             for node in ast.walk(tree):
-                if isinstance(node, ast.ImportFrom):
+                if isinstance(node, ast.ImportFrom) and node.module in LIBRARY:
+                    self.assertEqual(node.level, 0)
+                    self.assertTrue(all(one.name in LIBRARY[node.module] and not one.asname for one in node.names))
+                elif isinstance(node, ast.ImportFrom):
                     self.assertEqual((node.level, node.module.split(".")[0]), (0, "levelkin"), file)
                     there = names[node.module.split(".")[1]].body
                     defined = [one.name for one in there if isinstance(one, (ast.FunctionDef, ast.ClassDef))]
+                    defined += [one.targets[0].id for one in there if isinstance(one, ast.Assign)]
                     self.assertTrue(all(one.name in defined and one.asname is None for one in node.names), file)
                     seen.append((file.stem, node.module.split(".")[1]))
         left = sorted(set(seen))
