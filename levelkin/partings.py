@@ -181,8 +181,6 @@ def put_both(page, told):
     """The number of a line that is true if all these are: one of them, where it is enough."""
     true = page.put_all([])
     unlike = [number for number in sorted(set(told)) if number != true]
-    if not unlike:
-        return true
     return unlike[0] if len(unlike) == 1 else page.put_all(unlike)
 
 

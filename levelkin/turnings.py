@@ -13,8 +13,8 @@ PAIRS = 2
 class Search:
     """Looks for a turning from one web to another, places of which are told apart by pairs.
 
-    A pair of places has a number in each web: a turning leads each pair to one of its number. The search
-    may try so many places; None for as many as it takes.
+    A pair of places has a number in each web, pairs of unlike looks unlike ones: so an order is a turning if it
+    leads each pair to one of its number. The search may try so many places; None for as many as it takes.
     """
 
     def __init__(self, one_pairs, other_pairs, tries):
@@ -31,8 +31,6 @@ class Search:
             return False
         for ahead, led in enumerate(begun):
             if self.one_pairs[ahead][at] != self.other_pairs[led][place]:
-                return False
-            if self.one_pairs[at][ahead] != self.other_pairs[place][led]:
                 return False
         return True
 

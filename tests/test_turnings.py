@@ -155,6 +155,13 @@ class ManyTurnings(unittest.TestCase):
         self.assertEqual(many_turnings(beside(ring(4), ring(4))), 128)
         self.assertEqual(many_turnings(Web(8, (0, 0, 0, 1, 1, 1, 1, 1), ())), 6 * 120)
 
+    def test_places_that_only_a_whole_turning_tells_apart(self):
+        chance = random.Random(14)
+        # From each place to those that lie 1, 2, 4 further on: no pair shows which way round it is.
+        web = Web(7, (0,) * 7, tuple(sorted((0, p, (p + step) % 7) for p in range(7) for step in (1, 2, 4))))
+        for _ in range(10):
+            self.assertEqual(many_turnings(renamed(web, chance_order(chance, 7))), 21)
+
     def test_by_words(self):
         for web in [*small_webs(60, 5), *small_webs(10, 6)]:
             found = many_turnings(web)
