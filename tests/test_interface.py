@@ -25,6 +25,16 @@ LISTED = {
         "parting": ("one", "other", "level"), "is_parting": ("one", "other", "level", "thing"),
         "marks": ("webs", "level", "number"),
     },
+    "games": {
+        "hold": ("one", "other", "level"), "plan": ("one", "other", "level"), "fewest": ("one", "other", "level"),
+        "is_hold": ("one", "other", "level", "thing"), "is_plan": ("one", "other", "level", "thing"),
+    },
+    "playing": {
+        "Game": ("one", "other", "level"), "played": ("one", "other", "level", "first", "second", "most"),
+        "by_hold": ("hold",), "by_plan": ("one", "other", "level", "plan"),
+    },
+    "shares": {"shares": ("one", "other", "level"), "is_shares": ("one", "other", "level", "thing")},
+    "refusals": {"refusal": ("one", "other", "level"), "is_refusal": ("one", "other", "level", "thing")},
 }
 
 
@@ -41,6 +51,11 @@ class Interface(unittest.TestCase):
         web = importlib.import_module("levelkin.webs").Web
         self.assertIn("__init__", vars(web))
         self.assertIn("__eq__", vars(web))
+        game = importlib.import_module("levelkin.playing").Game
+        for name, arguments in (("__init__", ("self", "one", "other", "level")), ("standing", ("self",)),
+                                ("tell", ("self", "order")), ("take", ("self", "place", "index")), ("back", ("self",)),
+                                ("is_won", ("self",)), ("turns", ("self",)), ("copy", ("self",))):
+            self.assertEqual(tuple(inspect.signature(vars(game)[name]).parameters), arguments)
 
 
 if __name__ == "__main__":
