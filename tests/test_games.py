@@ -141,10 +141,12 @@ class IsHold(unittest.TestCase):
         self.assertGreater(min(judged.values()), 30)
 
     def test_keys_and_values_that_are_none(self):
-        for key in (None, 0, "()", (), ((),), ((), (), ()), ((0,), ()), ((), (0,)), ((3,), (0,)), ((0,), (3,)), ((-1,), (0,)),
+        for key in (None, 0, "()", (), ((),), ((), (), ()), ((0,), ()), ((), (0,)), ((3,), (0,)), ((0,), (3,)),
+                    ((-1,), (0,)),
                     ((0, 0), (0, 0)), (0, 0), ("", ""), ((None,), (0,)), (((0,),), ((0,),)), ((0,), (0,), (0,))):
             self.check(PATH, PATH, 1, {**ALL_OF_PATH, key: (0, 1, 2)}, False)
-        for value in [*wrong_things(), [0, 1, 2], (0, 1), (0, 1, 2, 3), (0, 1, 1), (0, 1, True), (0, 2, -1), ((0, 1, 2),),
+        for value in [*wrong_things(), [0, 1, 2], (0, 1), (0, 1, 2, 3), (0, 1, 1), (0, 1, True), (0, 2, -1),
+                      ((0, 1, 2),),
                       (False, 1, 2), "012"]:
             self.assertIs(is_hold(PATH, PATH, 1, {**ALL_OF_PATH, ((0,), (0,)): value}), False)
             self.assertIs(is_hold(PATH, PATH, 1, {**ALL_OF_PATH, BEGIN: value}), False)
@@ -206,7 +208,8 @@ class Plan(unittest.TestCase):
             self.check(one, other, 3, fewest_by_words(one, other, 3))
 
     def test_more_rounds_by_words(self):
-        for one, other in ((path(4), both_ways(4, [(0, 1), (2, 3)])), (path(5), both_ways(5, [(0, 1), (1, 2), (2, 0), (3, 4)])),
+        for one, other in ((path(4), both_ways(4, [(0, 1), (2, 3)])),
+                           (path(5), both_ways(5, [(0, 1), (1, 2), (2, 0), (3, 4)])),
                            (path(5), both_ways(5, [(0, 1), (1, 2), (2, 3), (2, 4)]))):
             self.check(one, other, 1, fewest_by_words(one, other, 1))
 
@@ -247,6 +250,17 @@ class IsPlan(unittest.TestCase):
             self.check(*HUES, 1, {BEGIN: (True, *lots)}, False)
         self.check(HUES[1], HUES[0], 1, {BEGIN: (1, (1,), ())}, True)
         self.check(HUES[1], HUES[0], 1, {BEGIN: (1, (0,), ())}, False)
+
+    def test_what_is_no_lot_where_a_lot_would_do(self):
+        one, other = Web(3, (0, 0, 0), ()), Web(3, (0, 1, 1), ())
+        for mine, yours, due in (((0, 1, 2), (0,), True), ((0, 1, 2), [0], False), ((0, 1, 2), (False,), False),
+                                 ((0, 1, 2), (0, 0), False), ((0, 1, 2), (0, 3), False), ((0, 1, 2), (-1, 0), False),
+                                 ((0, 1, 2), (1, 0), False), ((0, 1, 2), (0, 1), True), ((0, 1, 2), {0: 0}, False),
+                                 ((0, 1), (0,), True), ((1, 0), (0,), False), ([0, 1], (0,), False),
+                                 ((0, 0), (0,), False),
+                                 ((0, True), (0,), False), ((0, 1, 1), (0,), False), ({0: 0, 1: 1}, (0,), False),
+                                 (range(2), (0,), False), ((0, 2), (0,), True), ((0, 2), range(1), False)):
+            self.check(one, other, 1, {BEGIN: (1, mine, yours)}, due)
 
     def test_rounds_must_be_less(self):
         found = plan(SIX, TWO, 2)
@@ -302,11 +316,14 @@ class IsPlan(unittest.TestCase):
         found = plan(PATH, ring(3), 1)
         entry = found[BEGIN]
         self.check(PATH, ring(3), 1, found, True)
-        for key in (None, 0, "()", (), ((),), ((), (), ()), ((0,), ()), ((3,), (0,)), ((0,), (3,)), ((0, 0), (0, 0)), (0, 0),
+        for key in (None, 0, "()", (), ((),), ((), (), ()), ((0,), ()), ((3,), (0,)), ((0,), (3,)),
+                    ((0, 0), (0, 0)), (0, 0),
                     ((None,), (0,)), ((0,), (0,), (0,)), ((-1,), (0,))):
             self.check(PATH, ring(3), 1, {**found, key: entry}, False)
-        for value in [*wrong_things(), [1, (0,), ()], (1, (0,)), (1, (0,), (), ()), (1, [0], ()), (1, (0,), []), ("1", (0,), ()),
-                      (1, (0, 0), ()), (1, (1, 0), ()), (1, (3,), ()), (1, (-1,), ()), (1, (True,), ()), (1, (0, 1), (3,)),
+        for value in [*wrong_things(), [1, (0,), ()], (1, (0,)), (1, (0,), (), ()), (1, [0], ()), (1, (0,), []),
+                      ("1", (0,), ()),
+                      (1, (0, 0), ()), (1, (1, 0), ()), (1, (3,), ()), (1, (-1,), ()), (1, (True,), ()),
+                      (1, (0, 1), (3,)),
                       (1, (0, 1), (False,)), (1, (0, 1, 2), (1, 0)), (None, (0,), ()), (1, 0, 0), (1, "0", ""),
                       ((1,), (0,), ()), (1, {0: 0}, {})]:
             self.assertIs(is_plan(PATH, ring(3), 1, {**found, ((0,), (0,)): value}), False)
@@ -358,7 +375,8 @@ class Errors(unittest.TestCase):
             for call in (is_hold, is_plan):
                 self.assertEqual(told_error(call, one, other, 3, None), (TooMany, {"most": 10000}))
                 self.assertEqual(told_error(call, one, other, 3, {}), (TooMany, {"most": 10000}))
-        self.assertEqual([fewest(bare(6), bare(21), 3), plan(bare(6), bare(21), 3), hold(bare(6), bare(21), 3)], [0, {}, None])
+        self.assertEqual([fewest(bare(6), bare(21), 3), plan(bare(6), bare(21), 3), hold(bare(6), bare(21), 3)],
+                         [0, {}, None])
         self.assertIs(is_plan(bare(6), bare(21), 3, {}), True)
         self.assertIs(is_hold(bare(6), bare(21), 3, {}), False)
 

@@ -79,7 +79,8 @@ class Turned(unittest.TestCase):
         for thing in no_sayings():
             self.assertEqual(told_error(turned, thing, (0, 1, 2, 3)), (NoSaying, {}))
         self.assertEqual(told_error(turned, (), None), (NoSaying, {}))
-        for thing in [*wrong_things(), [0, 1, 2, 3], (0, 1, 2), (0, 1, 2, 3, 4), (0, 1, 2, 2), (1, 2, 3, 4), (0, 1, 2, -1),
+        for thing in [*wrong_things(), [0, 1, 2, 3], (0, 1, 2), (0, 1, 2, 3, 4), (0, 1, 2, 2), (1, 2, 3, 4),
+                      (0, 1, 2, -1),
                       (False, 1, 2, 3), (0, True, 2, 3), ("0", 1, 2, 3), ((0, 1, 2, 3),), {0: 0, 1: 1, 2: 2, 3: 3},
                       "0123", b"\x00\x01\x02\x03", range(4)]:
             self.assertEqual(told_error(turned, (TIE,), thing), (NoOrder, {}), thing)

@@ -292,7 +292,8 @@ class Played(unittest.TestCase):
         due = (True, (((0,), 0, None),))
         for most in (1, 2, 1000):
             self.assertEqual(played(one, other, 1, lambda standing, order: (0, None), lambda standing: (0,), most), due)
-        self.assertEqual(played(one, other, 1, lambda standing, order: (0, None), lambda standing: (0,), 0), (False, ()))
+        self.assertEqual(played(one, other, 1, lambda standing, order: (0, None), lambda standing: (0,), 0),
+                         (False, ()))
 
     def test_kinds_of_values(self):
         found = played(PATH, PATH, 1, lambda standing, order: (0, None if standing == ((), ()) else 0),
@@ -328,7 +329,8 @@ class Played(unittest.TestCase):
         for thing in things:
             self.assertEqual(told_error(played, PATH, PATH, 1, lambda standing, order: thing, lambda standing: SAME, 9),
                              (BadPlay, {"who": "first", "turns": ()}), thing)
-        for thing in [*wrong_things(), (0, None), (0, 1), (0, -1), (0, True), (0, False), (3, 0), [0, 0], (0,), (0, 0, 0)]:
+        for thing in [*wrong_things(), (0, None), (0, 1), (0, -1), (0, True), (0, False), (3, 0), [0, 0], (0,),
+                      (0, 0, 0)]:
             told = iter([(2, None), (1, 0), thing])
             self.assertEqual(
                 told_error(played, PATH, PATH, 1, lambda standing, order: next(told), lambda standing: SAME, 9),
@@ -369,7 +371,8 @@ class Players(unittest.TestCase):
                 found = hold(one, other, level)
                 if found is not None:
                     for _ in range(4):
-                        won, turns = played(one, other, level, chance_first(chance, one.many, level), by_hold(found), 25)
+                        won, turns = played(one, other, level, chance_first(chance, one.many, level),
+                                            by_hold(found), 25)
                         self.assertEqual((won, len(turns)), (False, 25))
                         games += 1
         self.assertGreater(games, 50)
@@ -394,7 +397,8 @@ class Players(unittest.TestCase):
 
     def test_by_a_plan_against_all_orders(self):
         # The second player tells each order at each turn.
-        for one, other in ((PATH, ring(3)), (path(4), beside(path(2), path(2))), (Web(2, (0, 0), ()), Web(2, (0, 1), ()))):
+        for one, other in ((PATH, ring(3)), (path(4), beside(path(2), path(2))),
+                           (Web(2, (0, 0), ()), Web(2, (0, 1), ()))):
             for level in (1, 2):
                 found = plan(one, other, level)
                 first = by_plan(one, other, level, found)

@@ -67,7 +67,8 @@ class Refusal(unittest.TestCase):
         self.check(path(23), both_ways(23, [(p, p + 1) for p in range(21)] + [(20, 22)]), 1, True)
 
     def test_unlike_numbers_of_places(self):
-        for one, other in ((bare(2), bare(3)), (bare(3), bare(2)), (PATH, bare(2)), (Web(2, (0, 1), ()), A), (A, bare(4))):
+        for one, other in ((bare(2), bare(3)), (bare(3), bare(2)), (PATH, bare(2)), (Web(2, (0, 1), ()), A),
+                           (A, bare(4))):
             for level in (1, 2):
                 found = self.check(one, other, level, True)
                 self.assertIs(is_refusal_by_words(one, other, level, found), True)
@@ -151,7 +152,8 @@ class IsRefusal(unittest.TestCase):
     def test_keys_that_are_none(self):
         right = {((), 1, 1): -1}
         self.check(*HUES, 1, right, True)
-        for key in (None, 0, "", (), ((), 0), ((), 0, 0, 0), ((), 2, 0), ((), -1, 0), ((), 0, 2), ((), 0, -1), ((), 1, 2),
+        for key in (None, 0, "", (), ((), 0), ((), 0, 0, 0), ((), 2, 0), ((), -1, 0), ((), 0, 2), ((), 0, -1),
+                    ((), 1, 2),
                     ((), None, 0), ((), 0, None), ((), "0", 0), (None, 0, 0), (0, 0, 0), ("", 0, 0), ((0, 0), 0, 0),
                     (((0, 1),), 0, 1), (((0, 0), (1, 1)), 0, 0), (((0, 0), (1, 0)), 0, 0), (((0, 2),), 0, 0),
                     (((2, 0),), 0, 0), (((0, 0, 0),), 0, 0), (((0, 0), (0, 0)), 0, 1), (((),), 0, 0),
@@ -209,7 +211,8 @@ class Errors(unittest.TestCase):
             self.assertEqual(told_error(is_refusal, bare(40), bare(40), level, None), (NoLevel, {}))
 
     def test_just_enough_and_just_more(self):
-        for level, let, more in ((1, [(14, 39), (23, 23)], [(22, 25), (40, 40)]), (2, [(2, 33), (8, 8)], [(17, 4), (9, 9)]),
+        for level, let, more in ((1, [(14, 39), (23, 23)], [(22, 25), (40, 40)]),
+                                 (2, [(2, 33), (8, 8)], [(17, 4), (9, 9)]),
                                  (3, [(1, 23), (23, 1), (4, 4)], [(1, 24), (24, 1), (4, 6), (5, 5)])):
             for many, others in let:
                 self.assertIsNone(told_error(is_refusal, bare(many), bare(others), level, {}))

@@ -103,6 +103,12 @@ class IsShares(unittest.TestCase):
             turned = {match: (-share[0], -share[1]) if share[0] < 0 else share for match, share in told.items()}
             self.check(bare(2), bare(2), 1, turned, top == 1)
 
+    def test_shares_of_nought_that_keep_all_demands(self):
+        whole = {(): (1, 1), ((0, 0),): (1, 1), ((1, 1),): (1, 1), ((0, 0), (1, 1)): (1, 1)}
+        none = {((0, 1),): (0, 1), ((1, 0),): (0, 1), ((0, 1), (1, 0)): (0, 1)}
+        self.check(bare(2), bare(2), 1, whole, True)
+        self.check(bare(2), bare(2), 1, {**whole, **none}, False)
+
     def test_matches_that_are_not_fair_and_keep_all_demands(self):
         web = Web(2, (0, 0), ((0, 0, 1),))
         self.check(web, web, 1, EVEN, False)
@@ -116,12 +122,14 @@ class IsShares(unittest.TestCase):
 
     def test_one_share_otherwise(self):
         for match in EVEN:
-            for share in ((1, 1), (2, 4), (0, 1), (0, 2), (-1, 2), (1, -2), (-1, -2), (1, 3), (3, 2), (1, 0), (2, 2), (0, 0)):
+            for share in ((1, 1), (2, 4), (0, 1), (0, 2), (-1, 2), (1, -2), (-1, -2), (1, 3), (3, 2), (1, 0),
+                          (2, 2), (0, 0)):
                 right = share == EVEN[match]
                 self.check(bare(2), bare(2), 1, {**EVEN, match: share}, right)
 
     def test_shares_of_other_kinds(self):
-        for share in [*wrong_things(), [1, 2], (1,), (1, 2, 1), (True, 1), (1, True), ("1", 2), (1, None), ((1, 2),), "12",
+        for share in [*wrong_things(), [1, 2], (1,), (1, 2, 1), (True, 1), (1, True), ("1", 2), (1, None),
+                      ((1, 2),), "12",
                       {1: 2}, ((1,), 2)]:
             for match in ((), ((0, 0),), ((0, 0), (1, 1))):
                 self.assertIs(is_shares(bare(2), bare(2), 1, {**EVEN, match: share}), False)
@@ -138,8 +146,10 @@ class IsShares(unittest.TestCase):
         web = Web(2, (0, 0), ((0, 0, 1),))
         right = {(): (1, 1), ((0, 0),): (1, 1), ((1, 1),): (1, 1), ((0, 0), (1, 1)): (1, 1)}
         self.check(web, web, 1, right, True)
-        for match in (((0, 1),), ((0, 1), (1, 0)), ((1, 1), (0, 0)), ((0, 0), (0, 0)), ((0, 0), (0, 1)), ((0, 0), (1, 0)),
-                      ((0, 2),), ((2, 0),), ((-1, 0),), ((0, 0), (1, 1), (1, 1)), (0, 0), ((0,),), ((0, 0, 0),), None, 0,
+        for match in (((0, 1),), ((0, 1), (1, 0)), ((1, 1), (0, 0)), ((0, 0), (0, 0)), ((0, 0), (0, 1)),
+                      ((0, 0), (1, 0)),
+                      ((0, 2),), ((2, 0),), ((-1, 0),), ((0, 0), (1, 1), (1, 1)), (0, 0), ((0,),), ((0, 0, 0),),
+                      None, 0,
                       "", "00", ("00",), ((None, 0),), (((0,), 0),), ((),), ((0, 0), ())):
             for share in ((1, 1), (1, 2), (0, 1)):
                 self.check(web, web, 1, {**right, match: share}, False)

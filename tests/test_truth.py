@@ -149,7 +149,8 @@ class Holds(unittest.TestCase):
                   ("all", (0, 4)), ("many", 2, 1, 5))
         for there, due in ((1, True), (3, True), (19, True), (17, True), (0, False), (2, False), (20, False)):
             self.check(web, saying, {0: 0, 1: there}, due)
-        four = (("same", 0, 1), ("same", 2, 3), ("all", (0, 1)), ("many", 1, 1, 2), ("many", 3, 1, 3), ("many", 0, 40, 4))
+        four = (("same", 0, 1), ("same", 2, 3), ("all", (0, 1)), ("many", 1, 1, 2), ("many", 3, 1, 3),
+                ("many", 0, 40, 4))
         self.check(web, four, {2: 39}, True)
 
     def test_wrong_arguments(self):
