@@ -171,7 +171,7 @@ def apart_in(charts, told, standing):
 
 
 def lots_apart(one_sights, other_sights):
-    """Lots mine and yours: places with one sight, more of them in one; such that few standings follow."""
+    """Lots mine and yours: places with one sight, more of them in one; few, and such that few standings follow."""
     yours = {}
     looks = {}
     for place, sight in enumerate(other_sights):
@@ -186,8 +186,8 @@ def lots_apart(one_sights, other_sights):
         enough = len(others) + 1
         if len(places) >= enough:
             needed = enough * (looks.get(sight[0], 0) - len(others))
-            choices.append((needed, tuple(places[:enough]), tuple(others)))
-    _, least_mine, least_yours = min(choices)
+            choices.append((needed, enough, tuple(places[:enough]), tuple(others)))
+    _, _, least_mine, least_yours = min(choices)
     return least_mine, least_yours
 
 
