@@ -161,7 +161,8 @@ def are_kept(sizes, level, told):
 def is_shares(one, other, level, thing):
     """Whether a thing is a dict of shares that keep all demands of the level."""
     check_sizes(one, other, level)
-    if not isinstance(thing, dict) or thing.get(()) != (1, 1):
+    # All pairs with places of one have as many shares together as one has places: so there must be as many in other.
+    if one.many != other.many or not isinstance(thing, dict) or thing.get(()) != (1, 1):
         return False
     matches = Matches(one, other)
     if not all([matches.is_fair_match(level + 1, match) for match in thing]):
