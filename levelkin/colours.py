@@ -100,6 +100,18 @@ def check_level(webs, level):
         raise TooMany(MOST_ROWS)
 
 
+def check_pairs(webs, level):
+    """Raises the errors for what is no level, and for webs of which any two have too many rows of it together.
+
+    A web alone is no two: it may have as many rows as it likes.
+    """
+    if not is_level(level):
+        raise NoLevel()
+    largest = sorted([many_rows(web.many, level) for web in webs])[-2:]
+    if len(largest) == 2 and sum(largest) > MOST_ROWS:
+        raise TooMany(MOST_ROWS)
+
+
 def numbered(lists):
     """All unlike items of the lists, ascending, and for each list the numbers of its items among them."""
     unlike = sorted({item for items in lists for item in items})
@@ -213,3 +225,12 @@ def portrait(web, level):
         sights = [(looks[sight[0]], sight[1:]) for sight in chart.seen(numbers, at)]
         told.append((len(having[number]), looks[chart.looks[at]], tuple(sights)))
     return tuple(told)
+
+
+def kinds_of(webs, level):
+    """For each of any many webs a number: webs that are alike at the level have one, others unlike ones."""
+    check_pairs(webs, level)
+    if len(webs) < 2:
+        return [0] * len(webs)
+    portraits = [portrait(web, level) for web in webs]
+    return [portraits.index(own) for own in portraits]

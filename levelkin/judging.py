@@ -1,4 +1,9 @@
-"""What kind of thing an argument is, in the words of the document. (0.2, 1.2, 1.3, 2.1)"""
+"""What kind of thing an argument is, in the words of the document. (0.2, 1.2, 1.3, 2.1, 8.1, 9.1, 10.1)"""
+
+LETTERS = "abcdefghijklmnopqrstuvwxyz"
+FIGURES = "0123456789"
+LONGEST_WORD = 8
+MOST_FIGURES = 9
 
 
 def is_whole(thing):
@@ -40,3 +45,17 @@ def is_lot(many, thing):
     if not isinstance(thing, tuple) or not all([is_below(many, number) for number in thing]):
         return False
     return all([ahead < number for ahead, number in zip(thing, thing[1:])])
+
+
+def is_word(thing):
+    """Whether a thing is a word of 1 to 8 letters a to z."""
+    if not isinstance(thing, str) or not 1 <= len(thing) <= LONGEST_WORD:
+        return False
+    return all([sign in LETTERS for sign in thing])
+
+
+def is_figures(text):
+    """Whether a text is a number without needless noughts, of at most 9 figures."""
+    if not 1 <= len(text) <= MOST_FIGURES or not all([sign in FIGURES for sign in text]):
+        return False
+    return len(text) == 1 or text[0] != "0"

@@ -35,7 +35,36 @@ LISTED = {
     },
     "shares": {"shares": ("one", "other", "level"), "is_shares": ("one", "other", "level", "thing")},
     "refusals": {"refusal": ("one", "other", "level"), "is_refusal": ("one", "other", "level", "thing")},
+    "bases": {
+        "Base": ("many", "ties"), "bags": ("base", "width"), "haven": ("base", "width"),
+        "is_bags": ("base", "width", "thing"), "is_haven": ("base", "width", "thing"), "width": ("base",),
+    },
+    "twists": {
+        "twisted": ("base", "twists"), "origin": ("base", "place"), "shifted": ("base", "twists", "others"),
+        "hold_of": ("base", "level"), "plan_of": ("base", "level"),
+    },
+    "machines": {
+        "states": ("web", "machine", "rounds"), "best": ("webs",), "found": ("webs", "level", "teller"),
+    },
+    "texts": {"web_text": ("web",), "read_web": ("text",)},
+    "tongue": {"saying_text": ("saying",), "read_saying": ("text",)},
+    "shelves": {"Disk": (), "Shelf": ("disk", "level")},
+    "desk": {"Desk": ()},
 }
+METHODS = (
+    ("webs", "Web", {"__init__": ("many", "hues", "ties"), "__eq__": ("other",)}),
+    ("playing", "Game", {
+        "__init__": ("one", "other", "level"), "standing": (), "tell": ("order",), "take": ("place", "index"),
+        "back": (), "is_won": (), "turns": (), "copy": (),
+    }),
+    ("bases", "Base", {"__init__": ("many", "ties"), "__eq__": ("other",)}),
+    ("shelves", "Disk", {"__init__": (), "text": (), "write": ("text", "most"), "cut": ("many",), "copy": ()}),
+    ("shelves", "Shelf", {
+        "__init__": ("disk", "level"), "put": ("name", "web", "most"), "drop": ("name", "most"), "names": (),
+        "kin": ("web",), "kinds": (), "web": ("name",),
+    }),
+    ("desk", "Desk", {"__init__": (), "tell": ("line",)}),
+)
 
 
 class Interface(unittest.TestCase):
@@ -48,14 +77,11 @@ class Interface(unittest.TestCase):
                 self.assertEqual(tuple(inspect.signature(found).parameters), arguments)
 
     def test_methods_stand_in_the_class_itself(self):
-        web = importlib.import_module("levelkin.webs").Web
-        self.assertIn("__init__", vars(web))
-        self.assertIn("__eq__", vars(web))
-        game = importlib.import_module("levelkin.playing").Game
-        for name, arguments in (("__init__", ("self", "one", "other", "level")), ("standing", ("self",)),
-                                ("tell", ("self", "order")), ("take", ("self", "place", "index")), ("back", ("self",)),
-                                ("is_won", ("self",)), ("turns", ("self",)), ("copy", ("self",))):
-            self.assertEqual(tuple(inspect.signature(vars(game)[name]).parameters), arguments)
+        for file, name, methods in METHODS:
+            found = getattr(importlib.import_module("levelkin." + file), name)
+            self.assertEqual(found.__bases__, (object,))
+            for method, arguments in methods.items():
+                self.assertEqual(tuple(inspect.signature(vars(found)[method]).parameters), ("self", *arguments))
 
 
 if __name__ == "__main__":

@@ -16,7 +16,7 @@ NODES = (
     ast.UnaryOp, ast.IfExp, ast.Load, ast.Store, ast.Del, ast.Delete, ast.And, ast.Or, ast.Not, ast.USub, ast.Add,
     ast.Sub, ast.Mult, ast.FloorDiv, ast.Mod, ast.BitAnd, ast.BitOr, ast.BitXor, ast.LShift, ast.RShift, ast.Eq,
     ast.NotEq, ast.Lt, ast.LtE, ast.Gt, ast.GtE, ast.Is, ast.IsNot, ast.In, ast.NotIn, ast.JoinedStr,
-    ast.FormattedValue,
+    ast.FormattedValue, ast.Try, ast.ExceptHandler,
 )
 # What may be imported from Python itself.
 LIBRARY = {"math": ("gcd",)}
@@ -37,6 +37,19 @@ BARRED = (
 
 def trees():
     return [(file, ast.parse(file.read_text())) for file in FILES]
+
+
+def is_plain_value(node, functions):
+    """Whether a value may stand at module level: a plain one, or a tuple or a dict of such and of functions above."""
+    if isinstance(node, ast.Constant):
+        return True
+    if isinstance(node, ast.Tuple):
+        return all(isinstance(item, ast.Constant) for item in node.elts)
+    if not isinstance(node, ast.Dict):
+        return False
+    return all(isinstance(key, ast.Constant) for key in node.keys) and all(
+        isinstance(item, ast.Constant) or (isinstance(item, ast.Name) and item.id in functions)
+        for item in node.values)
 
 
 def bound_names(tree):
@@ -92,14 +105,28 @@ class Statements(unittest.TestCase):
                 if isinstance(node, ast.Compare) and isinstance(node.ops[0], (ast.Is, ast.IsNot)):
                     self.assertIn(ast.unparse(node.comparators[0]), ("None", "True", "False"), where)
 
-    def test_modules_hold_only_docstrings_imports_definitions_and_numbers(self):
+    def test_modules_hold_only_docstrings_imports_definitions_and_plain_values(self):
         for file, tree in trees():
             self.assertIsNotNone(ast.get_docstring(tree), file)
+            functions = []
             for node in tree.body[1:]:
                 self.assertIsInstance(node, (ast.ImportFrom, ast.FunctionDef, ast.ClassDef, ast.Assign), file)
+                if isinstance(node, ast.FunctionDef):
+                    functions.append(node.name)
                 if isinstance(node, ast.Assign):
-                    self.assertIsInstance(node.value, ast.Constant, file)
+                    self.assertTrue(is_plain_value(node.value, functions), (file, ast.unparse(node)))
                     self.assertEqual(len(node.targets), 1)
+
+    def test_only_own_errors_are_caught(self):
+        errors = [node.name for file, tree in trees() for node in tree.body
+                  if file.stem == "errors" and isinstance(node, ast.ClassDef)]
+        for file, tree in trees():
+            for node in ast.walk(tree):
+                if isinstance(node, ast.Try):
+                    self.assertEqual((node.orelse, node.finalbody), ([], []), file)
+                if isinstance(node, ast.ExceptHandler):
+                    caught = node.type.elts if isinstance(node.type, ast.Tuple) else [node.type]
+                    self.assertTrue(all(one.id in errors for one in caught), (file, node.lineno))
 
     def test_imports_name_what_is_defined_there(self):
         seen = []
