@@ -3,7 +3,9 @@
 import random
 
 from levelkin.bases import Base
+from levelkin.desk import Desk
 from levelkin.errors import BadPlay, BadWeb, KinError, NoOrder
+from levelkin.shelves import Disk
 from levelkin.webs import Web
 
 PATH = Web(3, (0, 0, 0), ((0, 0, 1), (0, 1, 0), (0, 1, 2), (0, 2, 1)))
@@ -65,7 +67,7 @@ def wrong_things():
         [], [0], [[]], [None], {}, {0: 0}, {"a": [0]}, {(): ()}, {None: {}},
         (None,), ("",), (True,), (False,), ((),), ([],), (-1,), (10 ** 30 - 1,),
         ValueError("x"), KeyError(), BadWeb("many"), NoOrder(), BadPlay(Web(1, (0,), ()), [1]),
-        Web(1, (0,), ()), Base(1, ()), Base(2, ((0, 1),)), [Base(1, ())], {"a": Web(1, (0,), ())},
+        Web(1, (0,), ()), Base(1, ()), Base(2, ((0, 1),)), [Base(1, ())], Disk(), Desk(), {"a": Web(1, (0,), ())},
         nested(lambda thing: [thing], 40), nested(lambda thing: (thing,), 40),
         nested(lambda thing: {0: thing}, 40), nested(lambda thing: {(0, "a"): [thing]}, 20),
         [None] * 99999, (0,) * 99999, {number: None for number in range(50000)},
