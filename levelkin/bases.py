@@ -229,17 +229,19 @@ def is_led(told, bits, part):
     return True
 
 
+def many_parts(told):
+    """How many parts may be told to all lots together."""
+    return sum([len(parts) for parts in told.values()])
+
+
 def narrowed(told):
     """What may be told to each lot, less the parts beside which nothing may be told to another one."""
-    after = told
+    left = told
     many = None
-    while many != sum([len(parts) for parts in after.values()]):
-        many = sum([len(parts) for parts in after.values()])
-        before = after
-        after = {}
-        for bits, parts in before.items():
-            after[bits] = [part for part in parts if is_led(before, bits, part)]
-    return after
+    while many != many_parts(left):
+        many = many_parts(left)
+        left = {bits: [part for part in parts if is_led(left, bits, part)] for bits, parts in left.items()}
+    return left
 
 
 def settled(told):

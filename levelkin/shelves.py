@@ -1,6 +1,6 @@
 """A disk that may be cut anywhere, and a shelf that keeps webs on it. (9)"""
 
-from levelkin.colours import alike, check_level, kinds_of
+from levelkin.colours import alike, kinds_of
 from levelkin.errors import BadText, BadWeb, Fallen, NoLevel, NoName, NoNumber, NoText, NoWeb
 from levelkin.judging import is_below, is_level, is_number, is_word
 from levelkin.texts import read_web, web_text
@@ -25,7 +25,8 @@ class Disk:
         """Puts a text behind, or its first signs alone, at most so many."""
         if not isinstance(text, str):
             raise NoText()
-        check_most(most)
+        if most is not None and not is_number(most):
+            raise NoNumber()
         self.signs = self.signs + (text if most is None else text[:most])
 
     def cut(self, many):
@@ -39,12 +40,6 @@ class Disk:
         disk = Disk()
         disk.signs = self.signs
         return disk
-
-
-def check_most(most):
-    """Raises the error for what is neither None nor a number."""
-    if most is not None and not is_number(most):
-        raise NoNumber()
 
 
 def sum_of(text):
@@ -130,9 +125,10 @@ class Shelf:
         if self.fallen:
             raise Fallen()
 
-    def is_written(self, line, most):
-        """Writes a line, its first signs alone if most tells so; whether that is all of it: else the shelf falls."""
+    def wrote(self, line, most):
+        """Writes a line, or its first signs alone; whether that is all of it: else the shelf has fallen."""
         signs = line + "\n"
+        # What is neither None nor a number the disk finds, ahead of any change.
         self.disk.write(signs, most)
         self.fallen = most is not None and most < len(signs)
         return not self.fallen
@@ -144,8 +140,7 @@ class Shelf:
             raise NoName()
         if not isinstance(web, Web):
             raise NoWeb()
-        check_most(most)
-        if self.is_written(put_line(name, in_line(web_text(web))), most):
+        if self.wrote(put_line(name, in_line(web_text(web))), most):
             self.kept[name] = web
 
     def drop(self, name, most):
@@ -153,8 +148,7 @@ class Shelf:
         self.check_standing()
         if not is_word(name) or name not in self.kept:
             raise NoName()
-        check_most(most)
-        if self.is_written(drop_line(name), most):
+        if self.wrote(drop_line(name), most):
             del self.kept[name]
 
     def names(self):
@@ -171,8 +165,6 @@ class Shelf:
     def kin(self, web):
         """The names whose webs are alike to one."""
         self.check_standing()
-        for own in self.kept.values():
-            check_level([web, own], self.level)
         return tuple([name for name in self.names() if alike(web, self.kept[name], self.level)])
 
     def kinds(self):

@@ -36,11 +36,16 @@ UTILITY = Base(6, tuple((a, b) for a in range(3) for b in range(3, 6)))
 # All of eight places are tied with one another, but for the four pairs across.
 OCTAHEDRON_4 = Base(8, tuple((a, b) for a in range(8) for b in range(a + 1, 8) if b != a + 4))
 WHEEL = Base(6, tuple(sorted([(0, p) for p in range(1, 6)] + [(1, 2), (2, 3), (3, 4), (4, 5), (1, 5)])))
+# Two rings of three at place 0: what is left without it falls apart, and which part is the lesser one changes.
+RINGS = Base(5, ((0, 1), (0, 2), (0, 3), (0, 4), (1, 3), (2, 4)))
+KNOTS = Base(
+    8, ((0, 1), (0, 2), (0, 4), (0, 6), (1, 3), (1, 5), (1, 7), (2, 3), (2, 5), (2, 7), (3, 7), (4, 5), (5, 6)))
 
 KNOWN_WIDTHS = [
     (ALONE, 0), (way(2), 1), (way(5), 1), (way(8), 1), (star(4), 1), (star(7), 1), (ring_base(3), 2),
     (ring_base(5), 2), (ring_base(8), 2), (all_pairs(4), 3), (all_pairs(5), 4), (all_pairs(6), 5), (all_pairs(7), 6),
     (ladder(2), 2), (ladder(3), 2), (ladder(4), 2), (CUBE, 3), (UTILITY, 3), (OCTAHEDRON_4, 6), (WHEEL, 3),
+    (RINGS, 2), (KNOTS, 3),
 ]
 
 

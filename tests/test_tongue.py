@@ -216,6 +216,10 @@ class Read(unittest.TestCase):
         self.assertEqual(told_error(read_saying, "all (" * 100 + "all"), bad(503))
         # Brackets beside one another do not count.
         self.assertIsNotNone(self.check("all" + " (all (all))" * 150))
+        for ahead in ("all (some)", "some (not (all)) (all (some) (some))"):
+            self.assertIsNotNone(self.check(ahead + " (" + "not (" * 99 + "all" + ")" * 100))
+            self.assertIsNone(self.check(ahead + " (" + "not (" * 100 + "all" + ")" * 101))
+            self.assertEqual(told_error(read_saying, ahead + " (" + "not (" * 100), bad(len(ahead) + 501))
 
     def test_long_texts(self):
         for saying in (wide(3332), (("hue", 0, 0), ("all", (0,) * 1999))):
